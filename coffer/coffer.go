@@ -1,0 +1,53 @@
+// Package coffer: versions of texts in a log: see DOC.md.
+package coffer
+
+import (
+	"coffer/api"
+	"coffer/delta"
+	"coffer/sum"
+)
+
+// Diff makes a delta from one text to another (P3).
+func Diff(base string, next string) ([]api.Op, api.Errno) { return delta.Diff(base, next) }
+
+// Apply makes a text of a base and a delta (P3).
+func Apply(base string, ops []api.Op) (string, api.Errno, int) { return delta.Apply(base, ops) }
+
+// Compose makes one delta of two (P4).
+func Compose(first []api.Op, second []api.Op) ([]api.Op, api.Errno, int) { return nil, api.OK, 0 }
+
+// Encode makes bytes of a delta (P5).
+func Encode(ops []api.Op) (string, api.Errno, int) { return "", api.OK, 0 }
+
+// Decode makes a delta of bytes (P5).
+func Decode(code string) ([]api.Op, api.Errno, int) { return nil, api.OK, 0 }
+
+// Sum is the check sum of bytes (P6).
+func Sum(bytes string) uint32 { return sum.Of(bytes) }
+
+// Vault is chains of versions.
+type Vault struct{}
+
+// New makes an empty one (P7).
+func New() *Vault { return nil }
+
+// Open makes one of a log, or of as much of it as is whole (P9).
+func Open(log string) (*Vault, api.Errno, int) { return nil, api.OK, 0 }
+
+// Backup adds a version (P7).
+func (v *Vault) Backup(chain int, text string) (int, api.Errno) { return 0, api.OK }
+
+// Restore tells a version (P7).
+func (v *Vault) Restore(chain int, version int) (string, api.Errno) { return "", api.OK }
+
+// Versions tells the first and the last version of a chain (P7).
+func (v *Vault) Versions(chain int) (int, int, api.Errno) { return 0, 0, api.OK }
+
+// Prune takes the versions ahead of one away (P7).
+func (v *Vault) Prune(chain int, version int) api.Errno { return api.OK }
+
+// Squash makes the log as short as it can (P10).
+func (v *Vault) Squash() {}
+
+// Log tells all that is kept, as bytes (P8).
+func (v *Vault) Log() string { return "" }

@@ -1,0 +1,108 @@
+package coffer_test
+
+import (
+	"slices"
+	"strings"
+	"testing"
+
+	"coffer/api"
+	"coffer/coffer"
+)
+
+const (
+	greatest = int(^uint(0) >> 1)
+	least    = -greatest - 1
+)
+
+func text(s string) api.Op { return api.Op{Text: s} }
+
+func part(from, length int) api.Op { return api.Op{From: from, Len: length} }
+
+// oddTexts: the empty one, all kinds of bytes, and lengths around each bound.
+func oddTexts() []string {
+	every := make([]byte, 256)
+	for i := range every {
+		every[i] = byte(i)
+	}
+	texts := []string{"", "a", "\x00", "\xff\xfe", "123456789", string(every)}
+	for _, n := range []int{api.MinCopy, api.MaxText, api.MaxLog} {
+		for _, length := range []int{n - 1, n, n + 1} {
+			texts = append(texts, strings.Repeat("x", length))
+		}
+	}
+	return append(texts, strings.Repeat("x", 1000000))
+}
+
+// oddNumbers: around 0, around each bound, and the ends of what an int can be.
+func oddNumbers() []int {
+	return []int{least, least + 1, -1, 0, 1, 2, api.MaxChains - 1, api.MaxChains, api.MinCopy, api.MaxText, api.MaxText + 1, 1<<31 - 1, 1 << 31, greatest - 1, greatest}
+}
+
+func oddLists() [][]api.Op {
+	lists := [][]api.Op{nil, {}, slices.Repeat([]api.Op{part(0, 1)}, 100000)}
+	for _, from := range oddNumbers() {
+		for _, length := range oddNumbers() {
+			for _, s := range []string{"", "x", strings.Repeat("x", api.MaxText+1)} {
+				op := api.Op{From: from, Len: length, Text: s}
+				lists = append(lists, []api.Op{op}, []api.Op{part(0, 1), op}, []api.Op{text("y"), op, op})
+			}
+		}
+	}
+	return lists
+}
+
+func TestP1NoCallPanicsOnTexts(t *testing.T) {
+	for _, a := range oddTexts() {
+		coffer.Sum(a)
+		coffer.Decode(a)
+		coffer.Open(a)
+		for _, b := range oddTexts() {
+			if ops, e := coffer.Diff(a, b); e != api.OK && len(ops) != 0 {
+				t.Errorf("P1: Diff(%.20q, %.20q) tells %d ops beside the error %d", a, b, len(ops), e)
+			}
+		}
+	}
+}
+
+func TestP1NoCallPanicsOnLists(t *testing.T) {
+	for _, ops := range oddLists() {
+		coffer.Encode(ops)
+		coffer.Compose(ops, ops)
+		for _, base := range oddTexts() {
+			made, e, at := coffer.Apply(base, ops)
+			if e != api.OK && made != "" {
+				t.Errorf("P1: Apply(%.20q, %.60v) tells a text beside the error %d", base, ops, e)
+			}
+			if e == api.OK && at != 0 {
+				t.Errorf("P1: Apply(%.20q, %.60v) tells the place %d beside OK", base, ops, at)
+			}
+		}
+	}
+}
+
+func TestP1NoMethodPanics(t *testing.T) {
+	opened, _, _ := coffer.Open("")
+	for _, v := range []*coffer.Vault{coffer.New(), opened} {
+		for _, chain := range oddNumbers() {
+			v.Versions(chain)
+			for _, s := range oddTexts() {
+				v.Backup(chain, s)
+			}
+			for _, version := range oddNumbers() {
+				v.Restore(chain, version)
+				v.Prune(chain, version)
+			}
+		}
+		v.Squash()
+		v.Log()
+	}
+}
+
+func TestP1TheErrorNamedFirst(t *testing.T) {
+	long := strings.Repeat("x", api.MaxText+1)
+	for _, ops := range [][]api.Op{nil, {{}}, {text("x"), {}}, {part(0, len(long))}} {
+		if s, e, at := coffer.Apply(long, ops); s != "" || e != api.ErrLong || at != 0 {
+			t.Errorf("P1: Apply of a long base and %v = %.20q, %d, %d", ops, s, e, at)
+		}
+	}
+}
