@@ -14,13 +14,15 @@ func Diff(base string, next string) ([]api.Op, api.Errno) { return delta.Diff(ba
 func Apply(base string, ops []api.Op) (string, api.Errno, int) { return delta.Apply(base, ops) }
 
 // Compose makes one delta of two (P4).
-func Compose(first []api.Op, second []api.Op) ([]api.Op, api.Errno, int) { return nil, api.OK, 0 }
+func Compose(first []api.Op, second []api.Op) ([]api.Op, api.Errno, int) {
+	return delta.Compose(first, second)
+}
 
 // Encode makes bytes of a delta (P5).
-func Encode(ops []api.Op) (string, api.Errno, int) { return "", api.OK, 0 }
+func Encode(ops []api.Op) (string, api.Errno, int) { return delta.Encode(ops) }
 
 // Decode makes a delta of bytes (P5).
-func Decode(code string) ([]api.Op, api.Errno, int) { return nil, api.OK, 0 }
+func Decode(code string) ([]api.Op, api.Errno, int) { return decode(code) }
 
 // Sum is the check sum of bytes (P6).
 func Sum(bytes string) uint32 { return sum.Of(bytes) }

@@ -1,6 +1,7 @@
 package coffer_test
 
 import (
+	"fmt"
 	"slices"
 	"strings"
 	"testing"
@@ -17,6 +18,9 @@ const (
 func text(s string) api.Op { return api.Op{Text: s} }
 
 func part(from, length int) api.Op { return api.Op{From: from, Len: length} }
+
+// short shows ops, or as much of them as one line may have.
+func short(ops []api.Op) string { return fmt.Sprintf("%.100s", fmt.Sprint(ops)) }
 
 // oddTexts: the empty one, all kinds of bytes, and lengths around each bound.
 func oddTexts() []string {
@@ -54,8 +58,11 @@ func oddLists() [][]api.Op {
 func TestP1NoCallPanicsOnTexts(t *testing.T) {
 	for _, a := range oddTexts() {
 		coffer.Sum(a)
-		coffer.Decode(a)
 		coffer.Open(a)
+		ops, e, at := coffer.Decode(a)
+		if e != api.OK && len(ops) != 0 || e == api.OK && at != 0 {
+			t.Errorf("P1: Decode(%.20q) = %s, %d, %d", a, short(ops), e, at)
+		}
 		for _, b := range oddTexts() {
 			if ops, e := coffer.Diff(a, b); e != api.OK && len(ops) != 0 {
 				t.Errorf("P1: Diff(%.20q, %.20q) tells %d ops beside the error %d", a, b, len(ops), e)
@@ -66,15 +73,23 @@ func TestP1NoCallPanicsOnTexts(t *testing.T) {
 
 func TestP1NoCallPanicsOnLists(t *testing.T) {
 	for _, ops := range oddLists() {
-		coffer.Encode(ops)
-		coffer.Compose(ops, ops)
+		code, e, at := coffer.Encode(ops)
+		if e != api.OK && code != "" || e == api.OK && at != 0 {
+			t.Errorf("P1: Encode(%s) = %.20x, %d, %d", short(ops), code, e, at)
+		}
+		for _, second := range [][]api.Op{nil, {part(0, 1)}, ops} {
+			made, e, at := coffer.Compose(ops, second)
+			if e != api.OK && len(made) != 0 || e == api.OK && at != 0 {
+				t.Errorf("P1: Compose(%s, %s) = %s, %d, %d", short(ops), short(second), short(made), e, at)
+			}
+		}
 		for _, base := range oddTexts() {
 			made, e, at := coffer.Apply(base, ops)
 			if e != api.OK && made != "" {
-				t.Errorf("P1: Apply(%.20q, %.60v) tells a text beside the error %d", base, ops, e)
+				t.Errorf("P1: Apply(%.20q, %s) tells a text beside the error %d", base, short(ops), e)
 			}
 			if e == api.OK && at != 0 {
-				t.Errorf("P1: Apply(%.20q, %.60v) tells the place %d beside OK", base, ops, at)
+				t.Errorf("P1: Apply(%.20q, %s) tells the place %d beside OK", base, short(ops), at)
 			}
 		}
 	}

@@ -11,9 +11,10 @@ import (
 
 const p2Base = "0123456789abcdefghij"
 
-func TestP2ApplyWritesIntoNoList(t *testing.T) {
+func TestP2NoListIsWrittenInto(t *testing.T) {
 	for _, ops := range [][]api.Op{
 		{part(0, 6), text("there")},
+		{part(0, 6), text("there"), part(6, 2)},
 		{part(0, 6), part(6, 2)},
 		{text("a"), text("b")},
 		{{}, text("b")},
@@ -21,9 +22,14 @@ func TestP2ApplyWritesIntoNoList(t *testing.T) {
 		// spare room behind the end, and something in it that must stay
 		whole := slices.Concat(ops, []api.Op{text("spare"), part(1, 1)})
 		was := slices.Clone(whole)
-		coffer.Apply(p2Base, whole[:len(ops)])
+		list := whole[:len(ops)]
+		coffer.Apply(p2Base, list)
+		coffer.Encode(list)
+		coffer.Compose(list, []api.Op{part(0, 7), text("x")})
+		coffer.Compose([]api.Op{part(3, 17)}, list)
+		coffer.Compose(list, list)
 		if !slices.Equal(whole, was) {
-			t.Errorf("P2: Apply made %v of %v", whole, was)
+			t.Errorf("P2: what was handed in became %v, was %v", whole, was)
 		}
 	}
 }
@@ -40,23 +46,57 @@ func TestP2ApplyKeepsNoList(t *testing.T) {
 	}
 }
 
+// checkNewMemory spoils one answer of a call, with its spare room, and looks for that in the others.
+func checkNewMemory(t *testing.T, name string, call func() []api.Op) {
+	t.Helper()
+	want := slices.Clone(call())
+	spoilt, kept := call(), call()
+	for i := range spoilt[:cap(spoilt)] {
+		spoilt[:cap(spoilt)][i] = text("spoilt")
+	}
+	again := call()
+	if !slices.Equal(kept, want) || !slices.Equal(again, want) {
+		t.Errorf("P2: %s: a list that was spoilt shows in another: %v, %v, want %v", name, kept, again, want)
+	}
+	if slices.Contains(kept[:cap(kept)], text("spoilt")) || slices.Contains(again[:cap(again)], text("spoilt")) {
+		t.Errorf("P2: %s: two lists share spare room", name)
+	}
+}
+
 func TestP2DiffGivesNewMemory(t *testing.T) {
 	many := strings.Repeat("01234567-", 101)
 	for _, next := range []string{p2Base, "x" + p2Base, p2Base + "x", "x", many} {
-		want, _ := coffer.Diff(p2Base, next)
-		want = slices.Clone(want)
-		spoilt, _ := coffer.Diff(p2Base, next)
-		kept, _ := coffer.Diff(p2Base, next)
-		for i := range spoilt[:cap(spoilt)] {
-			spoilt[:cap(spoilt)][i] = text("spoilt")
-		}
-		spare := slices.Clone(kept[:cap(kept)])
-		again, _ := coffer.Diff(p2Base, next)
-		if !slices.Equal(kept, want) || !slices.Equal(again, want) {
-			t.Errorf("P2: Diff(%q, %.20q): a list that was spoilt shows in another: %v, %v, want %v", p2Base, next, kept, again, want)
-		}
-		if slices.Contains(spare, text("spoilt")) || slices.Contains(again[:cap(again)], text("spoilt")) {
-			t.Errorf("P2: Diff(%q, %.20q): two lists share spare room", p2Base, next)
+		checkNewMemory(t, "Diff", func() []api.Op {
+			ops, _ := coffer.Diff(p2Base, next)
+			return ops
+		})
+	}
+}
+
+func TestP2DecodeGivesNewMemory(t *testing.T) {
+	for _, code := range []string{"\x00", "\x01\x02a", "\x02\x0d\x00\x0athere", "\x03\x02a\x03\x00\x02a"} {
+		checkNewMemory(t, "Decode", func() []api.Op {
+			ops, _, _ := coffer.Decode(code)
+			return ops
+		})
+	}
+}
+
+func TestP2ComposeGivesNewMemory(t *testing.T) {
+	for _, c := range [][2][]api.Op{
+		{nil, nil},
+		{nil, {text("a")}},
+		{{part(0, 6), text("there")}, {part(0, 11)}},
+		{{text("there")}, {part(0, 5)}},
+		{{part(0, 6), text("there")}, {part(3, 5), text("x"), part(0, 1)}},
+	} {
+		first, second := slices.Clone(c[0]), slices.Clone(c[1])
+		checkNewMemory(t, "Compose", func() []api.Op {
+			ops, _, _ := coffer.Compose(first, second)
+			return ops
+		})
+		if !slices.Equal(first, c[0]) || !slices.Equal(second, c[1]) {
+			t.Errorf("P2: an answer of Compose shares memory with what was handed in: %v, %v", first, second)
 		}
 	}
 }
@@ -65,11 +105,15 @@ func TestP2CallsHangOnTheirArgumentsAlone(t *testing.T) {
 	sum := coffer.Sum("123456789")
 	ops, _ := coffer.Diff(p2Base, "x"+p2Base)
 	made, _, _ := coffer.Apply(p2Base, ops)
+	code, _, _ := coffer.Encode(ops)
 	for _, a := range oddTexts() {
 		coffer.Sum(a)
 		coffer.Diff(a, p2Base)
 		coffer.Diff(p2Base, a)
 		coffer.Apply(a, ops)
+		coffer.Decode(a)
+		coffer.Encode([]api.Op{text(a)})
+		coffer.Compose([]api.Op{text(a)}, ops)
 		if s := coffer.Sum("123456789"); s != sum {
 			t.Fatalf("P2: Sum became %x behind %.20q", s, a)
 		}
@@ -78,6 +122,15 @@ func TestP2CallsHangOnTheirArgumentsAlone(t *testing.T) {
 		}
 		if s, e, at := coffer.Apply(p2Base, ops); s != made || e != api.OK || at != 0 {
 			t.Fatalf("P2: Apply became %q, %d, %d behind %.20q", s, e, at, a)
+		}
+		if l, e, at := coffer.Decode(code); !slices.Equal(l, ops) || e != api.OK || at != 0 {
+			t.Fatalf("P2: Decode became %v, %d, %d behind %.20q", l, e, at, a)
+		}
+		if s, e, at := coffer.Encode(ops); s != code || e != api.OK || at != 0 {
+			t.Fatalf("P2: Encode became %x, %d, %d behind %.20q", s, e, at, a)
+		}
+		if l, e, at := coffer.Compose(ops, []api.Op{part(0, 21)}); !slices.Equal(l, ops) || e != api.OK || at != 0 {
+			t.Fatalf("P2: Compose became %v, %d, %d behind %.20q", l, e, at, a)
 		}
 	}
 }

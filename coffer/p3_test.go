@@ -13,14 +13,14 @@ import (
 func checkDiff(t *testing.T, base, next string, want []api.Op) {
 	t.Helper()
 	if got, e := coffer.Diff(base, next); !slices.Equal(got, want) || e != api.OK {
-		t.Errorf("P3: Diff(%.40q, %.40q) = %.80v, %d, want %.80v", base, next, got, e, want)
+		t.Errorf("P3: Diff(%.40q, %.40q) = %s, %d, want %s", base, next, short(got), e, short(want))
 	}
 }
 
 func checkApply(t *testing.T, base string, ops []api.Op, want string, wantErr api.Errno, wantAt int) {
 	t.Helper()
 	if got, e, at := coffer.Apply(base, ops); got != want || e != wantErr || at != wantAt {
-		t.Errorf("P3: Apply(%.40q, %.80v) = %.40q, %d, %d, want %.40q, %d, %d", base, ops, got, e, at, want, wantErr, wantAt)
+		t.Errorf("P3: Apply(%.40q, %s) = %.40q, %d, %d, want %.40q, %d, %d", base, short(ops), got, e, at, want, wantErr, wantAt)
 	}
 }
 
@@ -63,7 +63,7 @@ func TestP3DiffLong(t *testing.T) {
 	checkDiff(t, full, "", nil)
 	for _, c := range [][2]string{{long, ""}, {"", long}, {long, full}, {full, long}, {long, long}} {
 		if l, e := coffer.Diff(c[0], c[1]); len(l) != 0 || e != api.ErrLong {
-			t.Errorf("P3: Diff of %d and %d bytes = %.40v, %d", len(c[0]), len(c[1]), l, e)
+			t.Errorf("P3: Diff of %d and %d bytes = %s, %d", len(c[0]), len(c[1]), short(l), e)
 		}
 	}
 }

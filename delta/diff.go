@@ -1,4 +1,4 @@
-// Package delta makes deltas, rows of ops that make one text of another, and applies them.
+// Package delta makes deltas, rows of ops that make one text of another, applies and composes them, and writes and reads their codes.
 package delta
 
 import (

@@ -12,6 +12,15 @@ func size(op api.Op) int {
 	return len(op.Text)
 }
 
+// sizeOfAll is how many bytes the ops of a delta make.
+func sizeOfAll(ops []api.Op) int {
+	total := 0
+	for _, op := range ops {
+		total += size(op)
+	}
+	return total
+}
+
 // isOp tells whether op is one for a base of that many bytes.
 func isOp(op api.Op, baseSize int) bool {
 	if isCopy(op) {
