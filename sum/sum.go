@@ -27,8 +27,17 @@ func eightMoves(bits uint32) uint32 {
 	return bits
 }
 
-// Of is the sum of all bytes of a string.
+// Of is the sum of all bytes of a string, worked out by the rule alone, so that it hangs on no variable.
 func Of(bytes string) uint32 {
+	bits := uint32(allOnes)
+	for i := range len(bytes) {
+		bits = eightMoves(bits ^ uint32(bytes[i]))
+	}
+	return bits ^ allOnes
+}
+
+// ByTable is the same sum, byte by byte: the table spares the eight moves.
+func ByTable(bytes string) uint32 {
 	bits := uint32(allOnes)
 	for i := range len(bytes) {
 		// The upper 24 bits are only moved within eight moves, so the lowest byte alone picks the entry.
