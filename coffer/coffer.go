@@ -4,6 +4,7 @@ package coffer
 import (
 	"coffer/api"
 	"coffer/delta"
+	"coffer/store"
 	"coffer/sum"
 )
 
@@ -28,28 +29,33 @@ func Decode(code string) ([]api.Op, api.Errno, int) { return decode(code) }
 func Sum(bytes string) uint32 { return sum.Of(bytes) }
 
 // Vault is chains of versions.
-type Vault struct{}
+type Vault struct {
+	store store.Store
+}
 
 // New makes an empty one (P7).
-func New() *Vault { return nil }
+func New() *Vault { return &Vault{} }
 
 // Open makes one of a log, or of as much of it as is whole (P9).
-func Open(log string) (*Vault, api.Errno, int) { return nil, api.OK, 0 }
+// It reads nothing yet; what it gives is empty, not nil, so that no call panics on it.
+func Open(log string) (*Vault, api.Errno, int) { return New(), api.OK, 0 }
 
 // Backup adds a version (P7).
-func (v *Vault) Backup(chain int, text string) (int, api.Errno) { return 0, api.OK }
+func (v *Vault) Backup(chain int, text string) (int, api.Errno) { return v.store.Backup(chain, text) }
 
 // Restore tells a version (P7).
-func (v *Vault) Restore(chain int, version int) (string, api.Errno) { return "", api.OK }
+func (v *Vault) Restore(chain int, version int) (string, api.Errno) {
+	return v.store.Restore(chain, version)
+}
 
 // Versions tells the first and the last version of a chain (P7).
-func (v *Vault) Versions(chain int) (int, int, api.Errno) { return 0, 0, api.OK }
+func (v *Vault) Versions(chain int) (int, int, api.Errno) { return v.store.Versions(chain) }
 
 // Prune takes the versions ahead of one away (P7).
-func (v *Vault) Prune(chain int, version int) api.Errno { return api.OK }
+func (v *Vault) Prune(chain int, version int) api.Errno { return v.store.Prune(chain, version) }
 
 // Squash makes the log as short as it can (P10).
 func (v *Vault) Squash() {}
 
 // Log tells all that is kept, as bytes (P8).
-func (v *Vault) Log() string { return "" }
+func (v *Vault) Log() string { return v.store.Log() }

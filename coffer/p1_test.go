@@ -95,18 +95,30 @@ func TestP1NoCallPanicsOnLists(t *testing.T) {
 	}
 }
 
+// checkMethods makes every call of a Vault, and looks at what stands beside the errors.
+func checkMethods(t *testing.T, v *coffer.Vault, chain int) {
+	t.Helper()
+	if first, last, e := v.Versions(chain); e != api.OK && (first != 0 || last != 0) {
+		t.Errorf("P1: Versions(%d) = %d, %d beside the error %d", chain, first, last, e)
+	}
+	for _, s := range oddTexts() {
+		if version, e := v.Backup(chain, s); e != api.OK && version != 0 {
+			t.Errorf("P1: Backup(%d, %.20q) = %d beside the error %d", chain, s, version, e)
+		}
+	}
+	for _, version := range oddNumbers() {
+		if s, e := v.Restore(chain, version); e != api.OK && s != "" {
+			t.Errorf("P1: Restore(%d, %d) = %.20q beside the error %d", chain, version, s, e)
+		}
+		v.Prune(chain, version)
+	}
+}
+
 func TestP1NoMethodPanics(t *testing.T) {
 	opened, _, _ := coffer.Open("")
-	for _, v := range []*coffer.Vault{coffer.New(), opened} {
+	for _, v := range []*coffer.Vault{coffer.New(), opened, filled(t, 0), filled(t, 100)} {
 		for _, chain := range oddNumbers() {
-			v.Versions(chain)
-			for _, s := range oddTexts() {
-				v.Backup(chain, s)
-			}
-			for _, version := range oddNumbers() {
-				v.Restore(chain, version)
-				v.Prune(chain, version)
-			}
+			checkMethods(t, v, chain)
 		}
 		v.Squash()
 		v.Log()

@@ -134,3 +134,48 @@ func TestP2CallsHangOnTheirArgumentsAlone(t *testing.T) {
 		}
 	}
 }
+
+func TestP2VaultsAreApart(t *testing.T) {
+	one, other := coffer.New(), coffer.New()
+	checkBackup(t, one, 0, "a text of one", 1, api.OK)
+	if got, empty := allTold(other), allTold(coffer.New()); got != empty {
+		t.Errorf("P2: another Vault tells %v", got)
+	}
+	checkBackup(t, other, 0, "a text of the other", 1, api.OK)
+	checkBackup(t, other, 0, "a text of the other, and more", 2, api.OK)
+	was := allTold(other)
+	for i := range 20 {
+		checkBackup(t, one, 0, strings.Repeat("x", i), i+2, api.OK)
+		checkPrune(t, one, 0, i+1, api.OK)
+	}
+	if got := allTold(other); got != was {
+		t.Errorf("P2: the other Vault tells %v, told %v", got, was)
+	}
+}
+
+func TestP2WhatAVaultToldStays(t *testing.T) {
+	v := coffer.New()
+	v.Backup(0, "the first text")
+	log := v.Log()
+	first, _ := v.Restore(0, 1)
+	wasLog, wasFirst := strings.Clone(log), strings.Clone(first)
+	for range 20 {
+		v.Backup(0, "another text")
+	}
+	v.Prune(0, 20)
+	if log != wasLog || first != wasFirst {
+		t.Errorf("P2: what was told became %x, %q", log, first)
+	}
+}
+
+func TestP2OtherCallsHangOnNoVault(t *testing.T) {
+	ops, _ := coffer.Diff(p2Base, "x"+p2Base)
+	v := filled(t, 100)
+	v.Backup(0, p2Base)
+	if again, e := coffer.Diff(p2Base, "x"+p2Base); !slices.Equal(again, ops) || e != api.OK {
+		t.Errorf("P2: Diff became %v, %d", again, e)
+	}
+	if got, empty := allTold(coffer.New()), (told{}); got != empty {
+		t.Errorf("P2: a new Vault tells %v", got)
+	}
+}

@@ -13,11 +13,16 @@ func Encode(ops []api.Op) (string, api.Errno, int) {
 	if at := firstFault(ops, api.MaxText); at < len(ops) {
 		return "", api.ErrOp, at
 	}
-	bytes := code.AddNumber(nil, len(ops))
+	return string(AddCode(nil, ops)), api.OK, 0
+}
+
+// AddCode writes the code of ops that are a delta behind the bytes.
+func AddCode(bytes []byte, ops []api.Op) []byte {
+	bytes = code.AddNumber(bytes, len(ops))
 	for _, op := range ops {
 		bytes = addOp(bytes, op)
 	}
-	return string(bytes), api.OK, 0
+	return bytes
 }
 
 func addOp(bytes []byte, op api.Op) []byte {
