@@ -71,3 +71,19 @@ func TestTextAndEnd(t *testing.T) {
 		t.Errorf("P5: nothing behind the end gives up at %d", at)
 	}
 }
+
+func TestByteAndRest(t *testing.T) {
+	r := NewReader("abc")
+	if b := r.Byte(); b != 'a' || r.At() != 1 || r.AtEnd() {
+		t.Errorf("P9: the byte is %q, up to %d", b, r.At())
+	}
+	if rest := r.Rest(); rest != "bc" || !r.AtEnd() {
+		t.Errorf("P9: the rest is %q, up to %d", rest, r.At())
+	}
+	if rest := r.Rest(); rest != "" || !r.AtEnd() {
+		t.Errorf("P9: the rest behind the end is %q", rest)
+	}
+	if at := tried(func() { r.Byte() }); at != 3 {
+		t.Errorf("P9: a byte behind the end gives up at %d", at)
+	}
+}

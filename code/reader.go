@@ -26,13 +26,25 @@ func NewReader(bytes string) *Reader {
 // At is the place of the byte that comes next.
 func (r *Reader) At() int { return r.at }
 
+// AtEnd tells whether nothing comes any more.
+func (r *Reader) AtEnd() bool { return r.at == len(r.bytes) }
+
+// Byte reads one byte.
+func (r *Reader) Byte() byte {
+	if r.AtEnd() {
+		r.endTooSoon()
+	}
+	r.at++
+	return r.bytes[r.at-1]
+}
+
 // Number reads a number. One that is none gives up at its first byte.
 func (r *Reader) Number() int {
 	start := r.at
 	// More bits than an int is sure to have: five groups may say more than MaxNumber.
 	number := uint64(0)
 	for group := range maxGroups {
-		b := r.next()
+		b := r.Byte()
 		number |= uint64(b%moreFollow) << (group * groupBits)
 		if b >= moreFollow {
 			continue
@@ -56,19 +68,14 @@ func (r *Reader) Text(length int) string {
 	return strings.Clone(r.bytes[start:r.at])
 }
 
+// Rest reads all bytes that are left.
+func (r *Reader) Rest() string { return r.Text(len(r.bytes) - r.at) }
+
 // End gives up if there is anything more.
 func (r *Reader) End() {
-	if r.at < len(r.bytes) {
+	if !r.AtEnd() {
 		GiveUp(r.at)
 	}
-}
-
-func (r *Reader) next() byte {
-	if r.at == len(r.bytes) {
-		r.endTooSoon()
-	}
-	r.at++
-	return r.bytes[r.at-1]
 }
 
 func (r *Reader) endTooSoon() {

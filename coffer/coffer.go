@@ -37,8 +37,7 @@ type Vault struct {
 func New() *Vault { return &Vault{} }
 
 // Open makes one of a log, or of as much of it as is whole (P9).
-// It reads nothing yet; what it gives is empty, not nil, so that no call panics on it.
-func Open(log string) (*Vault, api.Errno, int) { return New(), api.OK, 0 }
+func Open(log string) (*Vault, api.Errno, int) { return open(log) }
 
 // Backup adds a version (P7).
 func (v *Vault) Backup(chain int, text string) (int, api.Errno) { return v.store.Backup(chain, text) }
@@ -55,7 +54,7 @@ func (v *Vault) Versions(chain int) (int, int, api.Errno) { return v.store.Versi
 func (v *Vault) Prune(chain int, version int) api.Errno { return v.store.Prune(chain, version) }
 
 // Squash makes the log as short as it can (P10).
-func (v *Vault) Squash() {}
+func (v *Vault) Squash() { v.store.Squash() }
 
 // Log tells all that is kept, as bytes (P8).
 func (v *Vault) Log() string { return v.store.Log() }

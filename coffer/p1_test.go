@@ -2,6 +2,7 @@ package coffer_test
 
 import (
 	"fmt"
+	"math/rand"
 	"slices"
 	"strings"
 	"testing"
@@ -58,7 +59,9 @@ func oddLists() [][]api.Op {
 func TestP1NoCallPanicsOnTexts(t *testing.T) {
 	for _, a := range oddTexts() {
 		coffer.Sum(a)
-		coffer.Open(a)
+		if v, e, n := coffer.Open(a); e != api.OK && (v != nil || n != 0) || e == api.OK && (v == nil || n > len(a)) {
+			t.Errorf("P1: Open(%.20q), %d bytes = %t, %d, %d", a, len(a), v != nil, e, n)
+		}
 		ops, e, at := coffer.Decode(a)
 		if e != api.OK && len(ops) != 0 || e == api.OK && at != 0 {
 			t.Errorf("P1: Decode(%.20q) = %s, %d, %d", a, short(ops), e, at)
@@ -112,17 +115,60 @@ func checkMethods(t *testing.T, v *coffer.Vault, chain int) {
 		}
 		v.Prune(chain, version)
 	}
+	v.Squash()
+	v.Log()
+}
+
+// oddVaults: new ones, full ones, and ones of logs that are whole, cut off, or none.
+func oddVaults(t *testing.T) []*coffer.Vault {
+	vaults := []*coffer.Vault{coffer.New(), filled(t, 0), filled(t, 100)}
+	full := filled(t, 0).Log()
+	for _, log := range []string{"", "x", ahead(), ahead()[:len(ahead())-1], ahead() + "x", full, full[1:], full[:len(full)/2]} {
+		v, e, _ := coffer.Open(log)
+		if e != api.OK {
+			t.Fatalf("P9: Open of %d bytes = %d", len(log), e)
+		}
+		vaults = append(vaults, v)
+	}
+	return vaults
 }
 
 func TestP1NoMethodPanics(t *testing.T) {
-	opened, _, _ := coffer.Open("")
-	for _, v := range []*coffer.Vault{coffer.New(), opened, filled(t, 0), filled(t, 100)} {
+	for _, v := range oddVaults(t) {
 		for _, chain := range oddNumbers() {
 			checkMethods(t, v, chain)
 		}
-		v.Squash()
-		v.Log()
 	}
+}
+
+func TestP1OpenOfAnyBytes(t *testing.T) {
+	r := rand.New(rand.NewSource(1))
+	for range 3000 {
+		bytes := make([]byte, r.Intn(200))
+		r.Read(bytes)
+		log := string(bytes)
+		if r.Intn(2) == 0 {
+			// with a sum that is good, so that what stands in the body is looked at
+			log = plainRecord(string("FDBP"[r.Intn(4)]) + log)
+		}
+		v, e, n := coffer.Open(log)
+		if v == nil || e != api.OK || n > len(log) || v.Log() != log[:n] {
+			t.Fatalf("P1: Open(%x) = %t, %d, %d", log, v != nil, e, n)
+		}
+		v.Squash()
+	}
+}
+
+func TestP1SquashOfManyVersionsEnds(t *testing.T) {
+	// no stretch of it stands again, so that the map of them is as great as can be
+	full := someText(rand.New(rand.NewSource(11)), api.MaxText, 100)
+	log := plainFull(0, full)
+	by := plainDifference(0, []api.Op{part(0, len(full))})
+	for len(log)+len(by) <= api.MaxLog {
+		log += by
+	}
+	v := checkOpen(t, log, len(log))
+	checkSquash(t, v, log)
 }
 
 func TestP1TheErrorNamedFirst(t *testing.T) {

@@ -153,6 +153,43 @@ func TestP2VaultsAreApart(t *testing.T) {
 	}
 }
 
+func TestP2OpenedVaultsAreApart(t *testing.T) {
+	log := plainFull(0, "gone") + plainFull(0, "a text of bytes") + plainPrune(0, 2) + plainBeginning(2, 7, "other")
+	one, other := checkOpen(t, log, len(log)), checkOpen(t, log, len(log))
+	was := allTold(other)
+	one.Squash()
+	checkBackup(t, one, 0, "a text of bytes!", 3, api.OK)
+	checkBackup(t, one, 2, "more", 8, api.OK)
+	checkPrune(t, one, 0, 3, api.OK)
+	if got := allTold(other); got != was {
+		t.Errorf("P2: the other Vault tells %v, told %v", got, was)
+	}
+	if got := allTold(checkOpen(t, log, len(log))); got != was {
+		t.Errorf("P2: one that is opened later tells %v, want %v", got, was)
+	}
+	if got, empty := allTold(coffer.New()), (told{}); got != empty {
+		t.Errorf("P2: a new Vault tells %v", got)
+	}
+}
+
+func TestP2ASquashLeavesWhatWasTold(t *testing.T) {
+	v := coffer.New()
+	v.Backup(0, "gone")
+	v.Backup(0, "a text")
+	v.Prune(0, 2)
+	log := v.Log()
+	was := strings.Clone(log)
+	v.Squash()
+	squashed := v.Log()
+	wasSquashed := strings.Clone(squashed)
+	v.Backup(0, "another text")
+	v.Prune(0, 3)
+	v.Squash()
+	if log != was || squashed != wasSquashed {
+		t.Errorf("P2: what was told became %x, %x", log, squashed)
+	}
+}
+
 func TestP2WhatAVaultToldStays(t *testing.T) {
 	v := coffer.New()
 	v.Backup(0, "the first text")

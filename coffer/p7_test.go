@@ -49,10 +49,12 @@ func allTold(v *coffer.Vault) told {
 	for chain := range api.MaxChains {
 		first, last, _ := v.Versions(chain)
 		all.numbers[chain] = [2]int{first, last}
+		var texts strings.Builder
 		for version := max(first, 1); version <= last; version++ {
 			s, _ := v.Restore(chain, version)
-			all.texts[chain] += s + "|"
+			texts.WriteString(s + "|")
 		}
+		all.texts[chain] = texts.String()
 	}
 	return all
 }

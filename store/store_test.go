@@ -1,18 +1,26 @@
 package store
 
 import (
-	"slices"
 	"strings"
 	"testing"
 
 	"coffer/api"
+	"coffer/code"
+	"coffer/record"
 )
 
 // standing is a store whose chain 2 has that one version alone.
 func standing(version int, text string) *Store {
 	s := &Store{}
-	s.chains[2] = versions{gone: version - 1, texts: []string{text}}
+	s.Replay(string(record.Bytes(record.Beginning(2, version, text))))
 	return s
+}
+
+// gaveUp runs a reading and tells whether it gave up.
+func gaveUp(read func()) (given bool) {
+	defer func() { _, given = recover().(code.Fault) }()
+	read()
+	return false
 }
 
 func TestNoVersionBehindTheGreatestNumber(t *testing.T) {
@@ -58,24 +66,43 @@ func TestPruneAtTheGreatestNumber(t *testing.T) {
 	}
 }
 
-func TestNothingOfWhatIsGoneIsKept(t *testing.T) {
-	s := &Store{}
-	for _, text := range []string{"a", "b", "c", "d"} {
-		s.Backup(0, text)
-	}
-	whole := s.chains[0].texts
-	s.Prune(0, 3)
-	// if the memory in which the first ones stand were still held, this would show
-	whole[2] = "other"
-	if texts := s.chains[0].texts; !slices.Equal(texts, []string{"c", "d"}) {
-		t.Errorf("P7: kept are %q", texts)
-	}
-}
-
 func TestShorter(t *testing.T) {
 	for _, c := range [][3]string{{"full", "dif", "dif"}, {"full", "diff", "full"}, {"full", "differs", "full"}} {
 		if got := string(shorter([]byte(c[0]), []byte(c[1]))); got != c[2] {
 			t.Errorf("P8: the shorter of %q and %q = %q", c[0], c[1], got)
 		}
+	}
+}
+
+func TestReplayGivesUpAndLeavesWhatWasDone(t *testing.T) {
+	one, other := string(record.Bytes(record.Full(1, "one"))), string(record.Bytes(record.Full(1, "other")))
+	// one that can't be read, and one that can't be done
+	for _, none := range []string{one[:len(one)-1], string(record.Bytes(record.Prune(0, 1)))} {
+		s := &Store{}
+		if !gaveUp(func() { s.Replay(one + other + none) }) {
+			t.Errorf("P9: a log with %x at its end is read to the end", none)
+		}
+		if s.Log() != one+other {
+			t.Errorf("P9: the log is %x, want %x", s.Log(), one+other)
+		}
+		if first, last, _ := s.Versions(1); first != 1 || last != 2 {
+			t.Errorf("P9: Versions = %d, %d", first, last)
+		}
+	}
+	s := &Store{}
+	if gaveUp(func() { s.Replay(one + other) }) || s.Log() != one+other {
+		t.Errorf("P9: a whole log gives up, and became %x", s.Log())
+	}
+}
+
+func TestSquashUpToTheGreatestNumber(t *testing.T) {
+	s := standing(1<<31-3, "gone")
+	s.Backup(2, "a")
+	s.Backup(2, "b")
+	s.Prune(2, 1<<31-2)
+	s.Squash()
+	want := string(record.Bytes(record.Beginning(2, 1<<31-2, "a"))) + string(record.Bytes(record.Full(2, "b")))
+	if s.Log() != want {
+		t.Errorf("P10: the log is %x, want %x", s.Log(), want)
 	}
 }
